@@ -1,0 +1,1 @@
+"""Stillread: an archive that is read back from any undamaged part."""

@@ -1,0 +1,1 @@
+"""Cells, names and polys, on which everything else rests."""

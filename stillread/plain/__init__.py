@@ -1,0 +1,1 @@
+"""Trees and histories as they are, with nothing lost."""

@@ -1,0 +1,1 @@
+"""Texts: their windows, their frames, and their damage."""
