@@ -7,7 +7,8 @@ import unittest
 from stillread import errors
 from stillread.text import cells as module
 from stillread.text.cells import (
-    cells_text, is_text, is_window, pieces, told_cells, window_cells, window_text, windows, windows_across, windows_in,
+    cells_text, is_text, is_window, pieces, told_cells, window_cells, window_text, windows, windows_across,
+    windows_in,
 )
 from tests import wrong
 from tests.examples import run_examples
@@ -51,7 +52,8 @@ def drawn_text(many):
         at = DRAW.randrange(122)
         parts.append(DRAW.choice((
             window, window, window[:at], window[at:], window[:at] + DRAW.choice("#;019x") + window[at + 1:],
-            "".join(DRAW.choices("#;0129 ab", k=DRAW.randint(0, 9))), "#" + "9" * 120 + ";", "007" * DRAW.randint(0, 40),
+            "".join(DRAW.choices("#;0129 ab", k=DRAW.randint(0, 9))), "#" + "9" * 120 + ";",
+            "007" * DRAW.randint(0, 40),
         )))
     return "".join(parts)
 
@@ -71,6 +73,9 @@ class CellsTest(unittest.TestCase):
                          [True, True, False])
         for code in list(range(32)) + [127]:
             self.assertIs(is_text(f"a{chr(code)}b"), False)
+        for code in (128, 160, 233, 1633):
+            self.assertIs(is_text(f"a{chr(code)}b"), False)
+            self.assertIs(is_window(SEVEN[:3] + chr(code) + SEVEN[4:]), False)
 
     def test_is_window(self):
         for value in wrong.ODD:

@@ -25,6 +25,7 @@ raises InvalidDamage
 """
 DRAW = random.Random(5)
 SEVEN, NINE = window_text((7,) * 40), window_text((9,) * 40)
+NO_FRAME = window_text(tuple(range(40)))
 
 
 def plain_damage(text, script):
@@ -75,7 +76,7 @@ def drawn_script(text, most):
 
 
 def drawn_text():
-    parts = [DRAW.choice((SEVEN, NINE, made_frame((DRAW.randrange(997),) * 20), "#", "x", SEVEN[30:]))
+    parts = [DRAW.choice((SEVEN, NINE, made_frame((DRAW.randrange(997),) * 20), NO_FRAME, "#", "x", SEVEN[30:]))
              for _ in range(DRAW.randint(0, 5))]
     return "".join(parts)
 
@@ -136,7 +137,8 @@ class ScriptsTest(unittest.TestCase):
             self.assertEqual(inside, [at for at, origin in enumerate(signs) if origin is not None])
 
     def test_stretches_that_grow_together(self):
-        self.assertEqual(stretches("abcd", (("out", 1, 3), ("copy", 0, 1, 0))), ((0, 1, 0, 0), (1, 2, 0, 0), (2, 3, 0, 3)))
+        self.assertEqual(stretches("abcd", (("out", 1, 3), ("copy", 0, 1, 0))),
+                         ((0, 1, 0, 0), (1, 2, 0, 0), (2, 3, 0, 3)))
         self.assertEqual(stretches("abcd", (("move", 0, 2, 2), ("move", 0, 2, 2))), ((0, 4, 0, 0),))
         self.assertEqual(stretches("abcd", (("copy", 0, 4, 4),)), ((0, 4, 0, 0), (4, 8, 0, 0)))
         self.assertEqual(stretches("", ()), ())
@@ -145,16 +147,23 @@ class ScriptsTest(unittest.TestCase):
         right = (
             (("out", 0, 3),), (("copy", 0, 3, 0),), (("copy", 0, 3, 3),), (("move", 0, 3, 0),), (("move", 0, 1, 2),),
             (("put", 0, "x"),), (("put", 3, "x"),), (("wrong", 2, "x"),), (("join", ""),), (), (("out", 0, 1),) * 3,
-            (("put", 0, "x"),) * 60, (("out", 0, 3), ("put", 0, "x")), (("out", 0, 3), ("join", "x"), ("wrong", 0, "y")),
+            (("put", 0, "x"),) * 60, (("out", 0, 3), ("put", 0, "x")),
+            (("out", 0, 3), ("join", "x"), ("wrong", 0, "y")),
         )
         for script in right:
             self.assertIs(is_script("abc", script), True, script)
         off = (
             ("out", 0, 4), ("out", 1, 1), ("out", 2, 1), ("out", -1, 1), ("out", 0), ("out", 0, 1, 0), ("copy", 0, 3),
-            ("copy", 0, 3, 4), ("copy", 0, 3, -1), ("copy", 3, 3, 0), ("move", 0, 1, 3), ("move", 0, 3, 1),
+            ("copy", 0, 3, 4), ("copy", 0, 3, -1), ("copy", 3, 3, 0), ("copy", 0, 3, 0, 0), ("move", 0, 1, 3),
+            ("move", 0, 3, 1),
+            ("move", 0, 1), ("move", 0, 1, 0, 0), ("move", 2, 1, 0), ("move", 1, 1, 0), ("move", 0, 4, 0),
+            ("move", 0, 1, -1),
             ("put", 4, "x"), ("put", 0, ""), ("put", 0, "\n"), ("put", 0), ("put", -1, "x"), ("put", 0, None),
+            ("put", 0, "x", "y"),
             ("wrong", 3, "x"), ("wrong", 0, "a"), ("wrong", 0, "xy"), ("wrong", 0, ""), ("wrong", 0, "\x7f"),
-            ("wrong", -1, "x"), ("join",), ("join", "x\n"), ("join", 0), ("join", "a", "b"), ("in", 0, 1), (0, 0, 1),
+            ("wrong", 0),
+            ("wrong", -1, "x"), ("wrong", 0, "x", "y"), ("wrong", 0, "\xe9"), ("join",), ("join", "x\n"),
+            ("join", 0), ("join", "a", "b"), ("in", 0, 1), (0, 0, 1),
             ("out", True, 2), ("out", 0, True), ("copy", 0, 1, True), ("put", False, "x"), ("wrong", True, "x"),
             ("out", 0, 10 ** 59), ("move", 0, 1, 10 ** 99), (), None, "out", ["out", 0, 1], (("out",), 0, 1),
             ([], 0, 1), ("out", (0,), 1), {"out": 1},
@@ -176,6 +185,8 @@ class ScriptsTest(unittest.TestCase):
         )], [True, False, True, False, True])
         self.assertIs(is_script(half + "a", (("copy", 0, 30000, 9),)), False)
         self.assertIs(is_script(half + "a", (("copy", 0, 29999, 9),)), True)
+        self.assertIs(is_script(half + more, (("out", 0, 3), ("copy", 100, 103, 9))), True)
+        self.assertIs(is_script(half + more, (("out", 0, 3), ("copy", 100, 104, 9))), False)
         self.assertIs(is_script(half, (("join", more), ("put", 0, "x"), ("out", 0, 1))), False)
         self.assertIs(is_script(half, (("join", more), ("out", 0, 1), ("put", 0, "x"))), True)
         self.assertIs(is_script(half + more, (("move", 0, 60000, 0), ("wrong", 0, "c"))), True)
@@ -202,7 +213,8 @@ class KeptTest(unittest.TestCase):
         sources = [text] + [act[1] for act in script if act[0] == "join"]
         kept, fresh = [], []
         for place, cells in windows(end):
-            rows = [stretch for stretch in stretches(text, script) if stretch[0] <= place and place + 122 <= stretch[1]]
+            rows = [(begin, last) for begin, last, source, at in stretches(text, script)
+                    if begin <= place and place + 122 <= last]
             if rows:
                 source, at = signs[place]
                 kept.append((place, source, at))

@@ -9,7 +9,7 @@ from stillread.text.damage import (
 )
 from stillread.text.frames import bodies_in, found_frames, made_frame, other_body, spliced
 from tests import wrong
-from tests.test_damage import drawn_script, drawn_text
+from tests.test_damage import NO_FRAME, drawn_script, drawn_text
 
 DRAW = random.Random(6)
 BODIES = [tuple(DRAW.randrange(997) for _ in range(20)) for _ in range(6)]
@@ -67,6 +67,13 @@ class FairTest(unittest.TestCase):
     def test_no_damage_is_surely_fair(self):
         self.check("", (), True, True)
         self.check(ONE + TWO, (), True, True)
+
+    def test_kept_windows_need_be_no_frames(self):
+        self.check(NO_FRAME + ONE, (("put", 0, "x"), ("copy", 1, 123, 0)), True, True)
+        self.check(NO_FRAME + NO_FRAME, (("out", 61, 183),), True, False)
+        self.check(NO_FRAME, wrong_digits(NO_FRAME, 0, range(1), 1), True, False)
+        self.check(ONE + NO_FRAME, (("out", 61, 183),), True, False)
+        self.check(NO_FRAME + ONE, (("out", 61, 183),), True, False)
 
     def test_splices(self):
         for border in (1, 2, 60, 61, 62, 121):
@@ -188,11 +195,12 @@ class SpoilingTest(unittest.TestCase):
 
     def test_others_are_right_too(self):
         text = ONE + "x" + TWO + THREE
-        for script in ((("wrong", 5, "x"),), (("out", 0, 1),), (("out", 0, 122),), (("out", 0, 123),), (("out", 121, 122),),
-                       (("out", 50, 51),), (("wrong", 121, "#"),), (("out", 60, 123),)):
+        for script in ((("wrong", 5, "x"),), (("out", 0, 1),), (("out", 0, 122),), (("out", 0, 123),),
+                       (("out", 121, 122),), (("out", 50, 51),), (("wrong", 121, "#"),), (("out", 60, 123),)):
             self.assertIs(is_spoiling(text, (0,), script), True, script)
         for script in ((("out", 0, 124),), (("out", 122, 123),), (), (("put", 5, "x"),), (("copy", 0, 1, 5),),
-                       (("move", 0, 1, 5),), (("wrong", 122, "#"),), (("join", ""),), (("wrong", 5, "x"), ("out", 0, 1))):
+                       (("move", 0, 1, 5),), (("wrong", 122, "#"),), (("join", ""),),
+                       (("wrong", 5, "x"), ("out", 0, 1))):
             self.assertIs(is_spoiling(text, (0,), script), False, script)
         self.assertIs(is_spoiling(text, (0, 123), (("out", 121, 124),)), True)
         self.assertIs(is_spoiling(text, (0, 123), (("out", 121, 123),)), False)
@@ -205,8 +213,8 @@ class SpoilingTest(unittest.TestCase):
         script = (("out", 50, 172),)
         self.assertEqual(found_frames(damaged(text, script)), ((0, BODIES[0]),))
         self.assertEqual(fresh_windows(text, script), (0,))
-        self.assertIs(is_spoiling(text, (0,), script), False)
-        self.assertIs(is_spoiling(text, (0, 122), script), False)
+        for places in ((), (0,), (122,), (0, 122)):
+            self.assertIs(is_spoiling(text, places, script), False)
         self.assertIs(is_spoiling(text, (0, 122), (("out", 50, 170),)), True)
 
     def test_is_spoiling_takes_every_value(self):

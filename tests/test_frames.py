@@ -171,7 +171,8 @@ class FramesTest(unittest.TestCase):
         body = (errors.InvalidBody, wrong.odd_but(is_body_like) + [LAST[1:], LAST + (0,), (997,) * 20, (True,) * 20,
                                                                    list(LAST)])
         text = (errors.InvalidText, wrong.odd_but(wrong.is_text))
-        indices = (errors.InvalidOperation, wrong.odd_but(are_indices) + [(40,), (3, 3), (4, 3), (True, 2), [1], (-1,)])
+        indices = (errors.InvalidOperation, wrong.odd_but(are_indices) + [
+            (40,), (3, 3), (4, 3), (True, 2), [1], (-1,)])
         at = (errors.InvalidNumber, wrong.odd_but(lambda value: wrong.is_int(value, 0, 122)) + [123])
         for function in (frame_cells, made_frame):
             wrong.check_wrong(self, function, (LAST,), (body,))

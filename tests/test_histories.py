@@ -38,7 +38,8 @@ APART = (2, 1, (1, 1), ("rename", "a", "b"), 1)
 STORY = (FIRST, NEXT, APART)
 DROP = ("drop", "a")
 FORMLESS = [
-    (0, 1, None, DROP, 1), (997, 1, None, DROP, 1), (1, 0, None, DROP, 1), (1, 997, None, DROP, 1), (True, 1, None, DROP, 1),
+    (0, 1, None, DROP, 1), (997, 1, None, DROP, 1), (1, 0, None, DROP, 1), (1, 997, None, DROP, 1),
+    (True, 1, None, DROP, 1),
     (1, True, None, DROP, 1), (1, 1, (1,), DROP, 1), (1, 1, (0, 1), DROP, 1), (1, 1, (1, True), DROP, 1),
     (1, 1, [1, 1], DROP, 1), (1, 1, 0, DROP, 1), (1, 1, False, DROP, 1), (1, 1, (), DROP, 1), (1, 1, None, DROP, 0),
     (1, 1, None, DROP, 17), (1, 1, None, DROP, True), (1, 1, None, DROP, None), (1, 1, None, DROP), (1, 1, DROP, 1),
@@ -52,6 +53,18 @@ def is_plain_history(value):
     return value == () or repr(value) == repr(((1, 1, None, ("put", "a", ()), 1),))
 
 
+def in_another_sequence(history):
+    """The saves in a drawn sequence with bases earlier and the numbers of each hand ascending."""
+    left, told = list(history), []
+    while left:
+        names = [None] + [save[:2] for save in told]
+        ready = [save for save in left if save[2] in names and not any(
+            other[0] == save[0] and other[1] < save[1] for other in left)]
+        told.append(DRAW.choice(ready))
+        left.remove(told[-1])
+    return tuple(told)
+
+
 class SavesTest(unittest.TestCase):
     def test_examples(self):
         run_examples(self, EXAMPLES, {**vars(errors), **vars(module)})
@@ -60,8 +73,8 @@ class SavesTest(unittest.TestCase):
         self.assertEqual((module.MOST_FRAMES, module.ROW), (16, 6))
 
     def test_is_save_name(self):
-        for value in wrong.ODD + ((996, 996), (0, 1), (1, 0), (997, 1), (1, 997), (True, 1), (1, True), [1, 1], (1, 1, 1),
-                                  ("1", 1), (1, None), ((1,), 1), (10 ** 59, 1)):
+        for value in wrong.ODD + ((996, 996), (0, 1), (1, 0), (997, 1), (1, 997), (True, 1), (1, True),
+                                  [1, 1], (1, 1, 1), ("1", 1), (1, None), ((1,), 1), (10 ** 59, 1)):
             self.assertIs(is_save_name(value), wrong.is_save_name(value), repr(value)[:60])
 
     def test_is_save(self):
@@ -72,7 +85,8 @@ class SavesTest(unittest.TestCase):
         for many, k in ((0, 1), (6, 1), (7, 2), (12, 2), (13, 3), (42, 7), (43, 8), (48, 8)):
             deeds = (("put", "a", (1,) * many), ("patch", "a", 0, 0, (1,) * many))
             for deed in deeds:
-                self.assertEqual([is_save((1, 1, None, deed, n)) for n in (k - 1, k, 16, 17)], [False, True, True, False])
+                self.assertEqual([is_save((1, 1, None, deed, n)) for n in (k - 1, k, 16, 17)],
+                                 [False, True, True, False])
                 self.assertEqual(rows_number(deed), k)
 
     def test_rows_number(self):
@@ -102,7 +116,8 @@ class FaultsTest(unittest.TestCase):
             ((1, 1, (3, 3), long, 1), "number"), ((1, 2, (3, 3), long, 1), "base"), ((1, 2, (1, 2), long, 1), "base"),
             ((1, 2, (1, 1), long, 1), "frames"), ((1, 2, (1, 1), ("patch", "b", 9, 9, (0,) * 7), 1), "frames"),
             ((1, 2, (1, 1), ("patch", "b", 9, 9, (0,) * 7), 2), ("gone", "b")), ((1, 2, (1, 1), long, 2), None),
-            ((1, 2, (1, 1), ("patch", "a", 9, 9, ()), 2), ("place", "a")), ((1, 2, None, ("drop", "a"), 2), ("gone", "a")),
+            ((1, 2, (1, 1), ("patch", "a", 9, 9, ()), 2), ("place", "a")),
+            ((1, 2, None, ("drop", "a"), 2), ("gone", "a")),
             ((1, 1, None, long, 1), "number"), ((2, 1, (1, 1), ("rename", "a", "b"), 1), None),
         ):
             self.assertEqual(history_fault((FIRST, save)), None if word is None else (1, word), save)
@@ -185,14 +200,9 @@ class VersionsTest(unittest.TestCase):
         told = 0
         for _ in range(150):
             history, trees = drawn_history(DRAW, 14)
-            left, other = list(history), []
-            while left:
-                ready = [save for save in left if (save[2] is None or save[2] in [one[:2] for one in other]) and not any(
-                    one[0] == save[0] and one[1] < save[1] for one in left)]
-                other.append(DRAW.choice(ready))
-                left.remove(other[-1])
-            self.assertEqual(versions(tuple(other)), versions(history))
-            told += tuple(other) != history
+            other = in_another_sequence(history)
+            self.assertEqual(versions(other), versions(history))
+            told += other != history
         self.assertGreater(told, 20)
 
     def test_origins_of_cells(self):

@@ -18,12 +18,13 @@ BARRED = set(
     "register mro elements open input law version_info eval exec id type vars globals locals compile help dir exit "
     "quit hash map filter next iter format chr print bytes bytearray getattr setattr hasattr super object".split())
 NODES = (
-    ast.Module, ast.FunctionDef, ast.ClassDef, ast.arguments, ast.arg, ast.Expr, ast.Assign, ast.AugAssign, ast.Return,
-    ast.If, ast.While, ast.For, ast.Raise, ast.Break, ast.Continue, ast.Delete, ast.Constant, ast.Name, ast.Load,
-    ast.Store, ast.Del, ast.Attribute, ast.Subscript, ast.Slice, ast.Call, ast.keyword, ast.List, ast.Tuple, ast.Dict,
-    ast.ListComp, ast.DictComp, ast.SetComp, ast.comprehension, ast.IfExp, ast.BoolOp, ast.And, ast.Or, ast.UnaryOp,
-    ast.Not, ast.USub, ast.BinOp, ast.Add, ast.Sub, ast.Mult, ast.FloorDiv, ast.Mod, ast.Compare, ast.cmpop,
-    ast.JoinedStr, ast.FormattedValue, ast.ImportFrom, ast.alias,
+    ast.Module, ast.FunctionDef, ast.ClassDef, ast.arguments, ast.arg, ast.Expr, ast.Assign, ast.AugAssign,
+    ast.Return, ast.If, ast.While, ast.For, ast.Raise, ast.Break, ast.Continue, ast.Delete, ast.Constant,
+    ast.Name, ast.Load, ast.Store, ast.Del, ast.Attribute, ast.Subscript, ast.Slice, ast.Call, ast.keyword,
+    ast.List, ast.Tuple, ast.Dict, ast.ListComp, ast.DictComp, ast.SetComp, ast.comprehension, ast.IfExp,
+    ast.BoolOp, ast.And, ast.Or, ast.UnaryOp, ast.Not, ast.USub, ast.BinOp, ast.Add, ast.Sub, ast.Mult,
+    ast.FloorDiv, ast.Mod, ast.Compare, ast.cmpop, ast.JoinedStr, ast.FormattedValue, ast.ImportFrom,
+    ast.alias,
 )
 
 
@@ -111,9 +112,9 @@ class WordsTest(unittest.TestCase):
             leads[module] = [node.module for node in imports_of(tree)]
             for node in imports_of(tree):
                 self.assertEqual(node.level, 0)
-                own = [one.name for one in named[node.module].body if isinstance(one, (ast.FunctionDef, ast.ClassDef))]
-                own += [name for one in named[node.module].body if isinstance(one, ast.Assign)
-                        for name in [one.targets[0].id]]
+                body = named[node.module].body
+                own = [one.name for one in body if isinstance(one, (ast.FunctionDef, ast.ClassDef))]
+                own += [one.targets[0].id for one in body if isinstance(one, ast.Assign)]
                 for alias in node.names:
                     self.assertIsNone(alias.asname)
                     self.assertIn(alias.name, own, module)

@@ -175,7 +175,8 @@ class PointsTest(unittest.TestCase):
                 total = sum(number * plain_value(poly, place) for number, place in zip(numbers, places))
                 self.assertEqual(total % 997, plain_value(poly, cell))
         self.assertEqual(numbers_at((), 5), ())
-        self.assertEqual(numbers_at((7, 3, 0), 3), (0, 1, 0))
+        self.assertEqual([numbers_at((7, 3, 0), cell) for cell in (0, 3, 7)], [(0, 0, 1), (0, 1, 0), (1, 0, 0)])
+        self.assertEqual([numbers_at((5,), 0), numbers_at((996,), 996), value_at((3, 4), 0)], [(1,), (1,), 3])
 
     def test_fewer_values_tell_no_other_one(self):
         places = (3, 5)

@@ -90,28 +90,36 @@ class SequencesTest(unittest.TestCase):
 
     def test_rings_at_the_edges(self):
         self.assertEqual(time_sequence(THREE, (((2, 1), (2, 1)),)), ("ring", ((2, 1),)))
-        self.assertEqual([time_sequence((), ()), is_time_sequence((), (), ()), is_time_sequence((), (), ("ring", ()))],
-                         [(), True, False])
+        self.assertEqual([time_sequence((), ()), is_time_sequence((), (), ())], [(), True])
+        self.assertIs(is_time_sequence((), (), ("ring", ())), False)
         self.assertIs(is_time_sequence(THREE, (((2, 1), (2, 1)),), THREE), False)
         pairs = (((1, 2), (1, 1)),)
         for ring, right in ((((1, 1), (1, 2)), True), (((1, 2), (1, 1)), True), (((1, 1),), False), ((), False),
-                            (((1, 1), (1, 2), (1, 1), (1, 2)), True), (((1, 1), (2, 1)), False), (((1, 1), (1, 3)), False)):
+                            (((1, 1), (1, 2), (1, 1), (1, 2)), True), (((1, 1), (2, 1)), False),
+                            (((1, 1), (1, 3)), False)):
             self.assertIs(is_time_sequence(THREE, pairs, ("ring", ring)), right, ring)
 
     def test_is_time_sequence_takes_every_value(self):
         names = ((1, 1), (1, 2))
         for value in wrong.ODD + (
             ("ring",), ("ring", ((1, 1), (1, 2)), 1), ("ring", [(1, 1), (1, 2)]), ["ring", ((1, 1), (1, 2))],
-            ("Ring", ((1, 1), (1, 2))), ("ring", ((True, 1), (1, 2))), ("ring", None), ("ring", "ring"), (1, ((1, 1),)),
+            ("Ring", ((1, 1), (1, 2))), ("ring", ((True, 1), (1, 2))), ("ring", None), ("ring", "ring"),
+            (1, ((1, 1),)),
             ((True, 1), (1, 2)), ((1, True), (1, 2)), [(1, 1), (1, 2)], ([1, 1], (1, 2)), ((1, 1), (1, 1), (1, 2)),
             ((1, 1), (1, 3)), ((1, 1),), (None, (1, 1)), ("ring", (None,)), ("ring", ((1, 1), [1, 2])),
         ):
             self.assertIs(is_time_sequence(names, (), value), False, repr(value)[:60])
         self.assertIs(is_time_sequence(names, (), names), True)
+        pairs, ring = (((1, 2), (1, 1)),), ((1, 1), (1, 2))
+        for value in (("Ring", ring), (None, ring), ("ring", list(ring)), ["ring", ring],
+                      ("ring", ring, ring), (ring,)):
+            self.assertIs(is_time_sequence(names, pairs, value), False, value)
+        self.assertIs(is_time_sequence(names, pairs, ("ring", ring)), True)
 
     def test_wrong_arguments(self):
         def are_names(value):
-            return isinstance(value, tuple) and all(map(wrong.is_save_name, value)) and list(value) == sorted(set(value))
+            sound = isinstance(value, tuple) and all(map(wrong.is_save_name, value))
+            return sound and list(value) == sorted(set(value))
         names = (errors.InvalidSave, wrong.odd_but(are_names) + [
             ((1, 2), (1, 1)), ((1, 1), (1, 1)), ((1, 1), (1, 0)), ((1, True),), [(1, 1)], ((1, 1), None), ([1, 1],)])
         pairs = (errors.InvalidOperation, wrong.odd_but(lambda value: value == ()) + [

@@ -22,7 +22,8 @@ raises Refused(('gone', 'a'))
 DRAW = random.Random(7)
 ODD_TREES = (
     {"abcde": ()}, {"": ()}, {"A": ()}, {1: ()}, {None: ()}, {"a": None}, {"a": [1]}, {"a": (997,)}, {"a": (True,)},
-    {"a": (0,) * 997}, {"a": (1,), "b": ((1,),)}, {("a",): ()}, {"a": ()}.items(), (("a", ()),), [{"a": ()}], {"a": 5},
+    {"a": (0,) * 997}, {"a": (1,), "b": ((1,),)}, {("a",): ()}, {"a": ()}.items(), (("a", ()),), [{"a": ()}],
+    {"a": 5},
     {"a": "b"}, {"a": (-1,)}, {True: ()}, {"a": (), 1: ()}, {"a": (), None: ()},
 )
 ODD_DEEDS = (
@@ -30,8 +31,10 @@ ODD_DEEDS = (
     ("put", "a", (0,) * 49), ("put", "a", (True,)), ("put", "a", None), ["put", "a", ()], ("PUT", "a", ()),
     ("patch", "a", 0, 0), ("patch", "a", 0, 0, (), ()), ("patch", "a", -1, 0, ()), ("patch", "a", 0, -1, ()),
     ("patch", "a", 997, 0, ()), ("patch", "a", 0, 997, ()), ("patch", "a", True, 0, ()), ("patch", "a", 0, False, ()),
-    ("patch", "a", 0, 0, (0,) * 49), ("patch", "a", 10 ** 99, 0, ()), ("patch", 1, 0, 0, ()), ("patch", "a", "0", 0, ()),
-    ("drop",), ("drop", "a", "b"), ("drop", ""), ("drop", None), ("drop", ("a",)), ("rename", "a"), ("rename", "a", "a"),
+    ("patch", "a", 0, 0, (0,) * 49), ("patch", "a", 10 ** 99, 0, ()), ("patch", 1, 0, 0, ()),
+    ("patch", "a", "0", 0, ()),
+    ("drop",), ("drop", "a", "b"), ("drop", ""), ("drop", None), ("drop", ("a",)), ("rename", "a"),
+    ("rename", "a", "a"),
     ("rename", "a", "b", "c"), ("rename", "a", ""), ("rename", "A", "b"), ("rename", "a", True), ("other", "a"),
     (("put",), "a", ()), (["put"], "a", ()), ({}, "a"), (0, "a", ()), (True, "a"), (None, "a"), "put", "drop",
 )
@@ -97,7 +100,8 @@ class TreesTest(unittest.TestCase):
             (("patch", "a", 0, 48, (1,) * 48), None), (("patch", "b", 1, 0, ()), ("place", "b")),
             (("patch", "b", 0, 1, (1,)), ("place", "b")), (("patch", "b", 0, 0, (1,) * 48), None),
             (("patch", "a", 0, 996, ()), None), (("patch", "a", 1, 996, ()), ("place", "a")),
-            (("rename", "c", "a"), ("gone", "c")), (("rename", "a", "b"), ("there", "b")), (("rename", "a", "c"), None),
+            (("rename", "c", "a"), ("gone", "c")), (("rename", "a", "b"), ("there", "b")),
+            (("rename", "a", "c"), None),
             (("drop", "c"), ("gone", "c")), (("drop", "b"), None), (("put", "a", (1,) * 48), None),
         ):
             self.assertEqual(refusal(full, deed), reason, deed)
@@ -136,7 +140,8 @@ class TreesTest(unittest.TestCase):
             ("put", "a", (1, 2)), ("patch", "a", 5, 6, (3,)), ("drop", "a"), ("rename", "b", "a"))],
             [(1, 2), (3,), (), ()])
         self.assertEqual([touched(deed) for deed in (
-            ("put", "b", (1, 2)), ("patch", "a", 5, 6, (3,)), ("drop", "a"), ("rename", "b", "a"), ("rename", "a", "b"))],
+            ("put", "b", (1, 2)), ("patch", "a", 5, 6, (3,)), ("drop", "a"),
+            ("rename", "b", "a"), ("rename", "a", "b"))],
             [("b",), ("a",), ("a",), ("a", "b"), ("a", "b")])
 
     def test_what_is_not_true(self):

@@ -68,9 +68,9 @@ def window_cells(text):
 
 
 def cells_from(text, place):
-    """The cells of the window that stands at a place of a text, None if there is none."""
+    """The cells of the window at a place with 122 signs behind it, None if there is none."""
     last = place + WINDOW_SIGNS - 1
-    if last >= len(text) or text[place] != "#" or text[last] != ";":
+    if text[place] != "#" or text[last] != ";":
         return None
     return digits_cells(text[place + 1:last])
 

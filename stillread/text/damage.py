@@ -61,7 +61,7 @@ def stretches(text, script):
 
 def does_follow(sign, ahead):
     """Whether an origin is one place behind that of the sign ahead."""
-    return sign is not None and ahead is not None and sign == (ahead[0], ahead[1] + 1)
+    return ahead is not None and sign == (ahead[0], ahead[1] + 1)
 
 
 def is_whole(signs):
@@ -170,7 +170,6 @@ def frame_runs(places, known):
 
 def checked_runs(text, places):
     """The runs of the places in a text, which are at most 60; the errors of these arguments."""
-    check_text(text)
     known = frame_places(text)
     check_places(places, known)
     runs = frame_runs(places, known)

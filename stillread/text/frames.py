@@ -4,7 +4,7 @@ from stillread.base.checks import are_indices, check_number
 from stillread.base.names import PRIME, is_cells
 from stillread.base.polys import evaluated, numbers_by, place_weights, with_roots
 from stillread.errors import InvalidBody, InvalidOperation
-from stillread.text.cells import WINDOW_SIGNS, check_text, window_cells, window_text, windows
+from stillread.text.cells import WINDOW_SIGNS, window_cells, window_text, windows
 
 FRAME_CELLS = 40
 BODY_CELLS = 20
@@ -79,7 +79,6 @@ def told_frame(text):
 
 def found_frames(text):
     """The pairs (place, body) of all frames that are found in a text."""
-    check_text(text)
     rows = further_rows()
     return tuple([(place, cells[:BODY_CELLS]) for place, cells in windows(text) if is_frame(cells, rows)])
 
