@@ -28,6 +28,38 @@ INTERFACE = {
         version(history,save) origins(history,save,name) versions(history) heads(history)
         common_base(history,one,other) rows_number(deed) time_sequence(names,pairs)
         is_time_sequence(names,pairs,value)""",
+    "stillread.lots.spread": """
+        is_body(value) told_body(body) marks(body) with_payload(body,index,payload) payloads(cells,n)
+        frames_of(archive,save,ahead) all_frames(archive,history)""",
+    "stillread.lots.gather": """
+        is_lot(value) lots_of(frames) known_places(lot,column) lot_clash(lot) is_lot_clash(lot,value) cell_answer(lot,at)
+        is_cell_paper(lot,at,cell,value) is_open_paper(lot,at,value) told_cells(lot) told_payload(lot,index)
+        fitting_cells(lot) is_fitting(lot,value) fit_number(lot) unlike_cells(lot,at) are_unlike_cells(lot,at,value)""",
+    "stillread.lots.wrong": """
+        serves(k,sure,poly) faults(k,sure,word,poly) most_wrong(k,sure,word) near_poly(k,sure,word,wrong)
+        none_paper(k,sure,word,wrong) is_none_paper(k,sure,word,wrong,value) all_near(k,sure,word,wrong)
+        two_near(k,sure,many,standing,wrong) is_two_near(k,sure,many,standing,wrong,value)
+        lot_cells(length,payloads,wrong) lot_paper(length,payloads,wrong) is_lot_paper(length,payloads,wrong,value)""",
+    "stillread.read.marks": """
+        is_mark(value) is_sketch(value) is_row(value) mark_of(tree,deed) deed_of(mark,cells) row_length(row)
+        row_part(row,first,stop) row_joined(rows) origin(row,at)""",
+    "stillread.read.pieces": """way_of(sketch,save) ground_of(sketch,save) Outline(ground) outline_of(sketch,save)""",
+    "stillread.read.constraints": """
+        gaps(sketch) above(sketch,gap) says(sketch,save) clash_of(sketch) is_clash_of(sketch,value) said(sketch,gap)
+        fitting_tree(sketch,gap) is_fitting(sketch,gap,value) sights(frames) sketch_of(frames) clash(frames)""",
+    "stillread.keep.archive": """known_saves(text,archive) Archive(archive,hand)""",
+    "stillread.paper.checker": """
+        is_question(value) takes(frames,question,answer,paper) is_clash(frames,value) has_frames(history,frames)
+        answer_in(history,question) is_unlike(frames,question,value)""",
+}
+METHODS = {
+    ("stillread.read.pieces", "Outline"): "behind(save,mark) does_fit(tree) filled(tree,cells) __eq__(other) __len__()",
+    ("stillread.keep.archive", "Archive"): """
+        add(deed,base,more) hear(text) version(save) known(save) history() __contains__(value) __len__() __str__()""",
+}
+PROPERTIES = {
+    ("stillread.read.pieces", "Outline"): "ground entries asks gone",
+    ("stillread.keep.archive", "Archive"): "archive hand text names heads made",
 }
 
 
@@ -40,6 +72,21 @@ class InterfaceTest(unittest.TestCase):
                 function = getattr(module, word)
                 self.assertEqual(function.__module__, name, word)
                 self.assertEqual(list(inspect.signature(function).parameters), rest.split(","), word)
+
+    def test_methods(self):
+        for (name, word), block in METHODS.items():
+            told = vars(getattr(importlib.import_module(name), word))
+            for method, rest in [one.rstrip(")").split("(") for one in block.split()]:
+                wanted = ["self"] + [parameter for parameter in rest.split(",") if parameter]
+                self.assertEqual(list(inspect.signature(told[method]).parameters), wanted, (word, method))
+            for one in PROPERTIES[(name, word)].split():
+                self.assertIsInstance(told[one], property, (word, one))
+        archive = importlib.import_module("stillread.keep.archive").Archive
+        self.assertIsInstance(vars(archive)["continued"], classmethod)
+        self.assertEqual(list(inspect.signature(archive.continued).parameters), ["text", "archive", "hand"])
+        add = inspect.signature(archive.add).parameters
+        self.assertEqual([(add[word].kind, add[word].default) for word in ("base", "more")],
+                         [(inspect.Parameter.KEYWORD_ONLY, None), (inspect.Parameter.KEYWORD_ONLY, 0)])
 
 
 if __name__ == "__main__":

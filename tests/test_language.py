@@ -9,11 +9,12 @@ ROOT = pathlib.Path(__file__).resolve().parent.parent
 PACKAGE = ROOT / "stillread"
 BUILTINS = set(
     "len range enumerate zip min max sum abs sorted reversed int str bool list tuple dict set isinstance ord repr "
-    "any all divmod pow ValueError KeyError IndexError OverflowError ArithmeticError".split())
+    "any all divmod pow property classmethod ValueError KeyError IndexError OverflowError ArithmeticError".split())
 METHODS = set(
     "append clear copy count endswith extend find get index insert isalnum isalpha isdigit islower isspace isupper "
     "items join keys ljust lower lstrip partition pop remove replace reverse rfind rjust setdefault split splitlines "
-    "startswith strip update upper values zfill bit_length isascii isprintable add __init__".split())
+    "startswith strip update upper values zfill bit_length isascii isprintable __init__".split())
+DOUBLE = ("__init__", "__eq__", "__len__", "__str__", "__contains__")
 BARRED = set(
     "register mro elements open input law version_info eval exec id type vars globals locals compile help dir exit "
     "quit hash map filter next iter format chr print bytes bytearray getattr setattr hasattr super object".split())
@@ -23,7 +24,7 @@ NODES = (
     ast.Name, ast.Load, ast.Store, ast.Del, ast.Attribute, ast.Subscript, ast.Slice, ast.Call, ast.keyword,
     ast.List, ast.Tuple, ast.Dict, ast.ListComp, ast.DictComp, ast.SetComp, ast.comprehension, ast.IfExp,
     ast.BoolOp, ast.And, ast.Or, ast.UnaryOp, ast.Not, ast.USub, ast.BinOp, ast.Add, ast.Sub, ast.Mult,
-    ast.FloorDiv, ast.Mod, ast.Compare, ast.cmpop, ast.JoinedStr, ast.FormattedValue, ast.ImportFrom,
+    ast.FloorDiv, ast.Mod, ast.Pow, ast.Compare, ast.cmpop, ast.JoinedStr, ast.FormattedValue, ast.ImportFrom,
     ast.alias,
 )
 
@@ -58,8 +59,14 @@ def bound(tree):
     return names
 
 
+def own_methods():
+    """The names of all methods and properties of the package."""
+    return {node.name for tree in trees().values() for one in tree.body if isinstance(one, ast.ClassDef)
+            for node in one.body if isinstance(node, ast.FunctionDef)}
+
+
 def local_names(function):
-    names = [argument.arg for argument in function.args.args]
+    names = [argument.arg for argument in function.args.args + function.args.kwonlyargs]
     return names + [node.id for node in ast.walk(function) if isinstance(node, ast.Name) and isinstance(
         node.ctx, ast.Store)]
 
@@ -80,7 +87,7 @@ class FilesTest(unittest.TestCase):
             for node in ast.walk(ast.parse(text)):
                 if isinstance(node, ast.FunctionDef):
                     self.assertLessEqual(node.end_lineno - node.lineno + 1, 40, (path, node.name))
-                    self.assertTrue(ast.get_docstring(node) or node.name == "__init__", (path, node.name))
+                    self.assertTrue(ast.get_docstring(node) or node.name in DOUBLE, (path, node.name))
 
 
 class WordsTest(unittest.TestCase):
@@ -89,7 +96,9 @@ class WordsTest(unittest.TestCase):
             for node in ast.walk(tree):
                 self.assertIsInstance(node, NODES, (path, ast.dump(node)[:80]))
                 if isinstance(node, ast.FunctionDef):
-                    self.assertEqual(node.decorator_list, [])
+                    decorators = [ast.unparse(one) for one in node.decorator_list]
+                    self.assertIn(decorators, ([], ["property"], ["classmethod"]), path)
+                    self.assertTrue(not node.name.startswith("__") or node.name in DOUBLE, path)
                 if isinstance(node, ast.Constant):
                     self.assertNotIsInstance(node.value, (float, complex, bytes))
                     self.assertFalse(isinstance(node.value, str) and "%" in node.value, path)
@@ -130,18 +139,35 @@ class WordsTest(unittest.TestCase):
                 for alias in node.names:
                     self.assertIn(alias.name, used, path)
 
+    def test_classes(self):
+        for path, tree in trees().items():
+            for one in [node for node in ast.walk(tree) if isinstance(node, ast.ClassDef)]:
+                self.assertIn(one, tree.body)
+                methods = [node.name for node in one.body if isinstance(node, ast.FunctionDef)]
+                kept = {node.attr for node in ast.walk(one) if isinstance(node, ast.Attribute) and isinstance(
+                    node.ctx, ast.Store)}
+                self.assertEqual(len(methods), len(set(methods)), path)
+                self.assertFalse(set(methods) & kept, path)
+                changing = [node for node in one.body if isinstance(node, ast.FunctionDef) and (
+                    node.decorator_list or node.name in DOUBLE[1:])]
+                for node in [inner for method in changing for inner in ast.walk(method)]:
+                    stored = isinstance(node, (ast.Attribute, ast.Subscript)) and isinstance(node.ctx, ast.Store)
+                    self.assertFalse(stored, (path, one.name))
+
     def test_names(self):
+        known = METHODS | own_methods()
         for path, tree in trees().items():
             imported = [alias.name for node in imports_of(tree) for alias in node.names]
+            classes = [node.name for node in tree.body if isinstance(node, ast.ClassDef)]
             barred = BARRED | set(dir(builtins)) | set(imported)
             for node in ast.walk(tree):
                 if isinstance(node, ast.Name) and hasattr(builtins, node.id):
                     self.assertIn(node.id, BUILTINS, path)
                 if isinstance(node, ast.FunctionDef):
-                    self.assertFalse(set(local_names(node)) & barred, (path, node.name))
+                    self.assertFalse(set(local_names(node)) & (barred | set(classes)), (path, node.name))
                     self.assertFalse(node.name in barred, (path, node.name))
                 if isinstance(node, ast.Call) and isinstance(node.func, ast.Attribute):
-                    self.assertIn(node.func.attr, METHODS, path)
+                    self.assertIn(node.func.attr, known, path)
 
 
 if __name__ == "__main__":

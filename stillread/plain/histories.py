@@ -29,9 +29,14 @@ def is_save(value):
     return has_form(value) and value[4] >= rows_for(value[3])
 
 
+def row_count(length):
+    """How many rows so many new cells have, at least 1."""
+    return max(1, (length + ROW - 1) // ROW)
+
+
 def rows_for(deed):
     """How many rows the new cells of a checked deed have, at least 1."""
-    return max(1, (len(put_cells(deed)) + ROW - 1) // ROW)
+    return row_count(len(put_cells(deed)))
 
 
 def rows_number(deed):
@@ -51,7 +56,7 @@ def history_fault(value):
         return (0, "form")
     fault = form_fault(value)
     sound = value if fault is None else value[:fault[0]]
-    refused = deed_fault(sound)
+    refused, aheads = deeds_walked(sound)
     return fault if refused is None else refused
 
 
@@ -82,20 +87,28 @@ def save_fault(save, last, names):
     return None
 
 
-def deed_fault(saves):
-    """The first refusal of a deed among saves that have no other fault."""
+def deeds_walked(saves):
+    """The first refusal among saves without other faults, and the lengths ahead of the deeds till then."""
     uses = base_uses(saves)
     trees = {}
+    aheads = []
     for index, save in enumerate(saves):
         hand, number, base, deed, n = save
         tree = taken_tree(trees, uses, base)
         reason = refusal_of(tree, deed)
         if reason is not None:
-            return (index, reason)
+            return ((index, reason), aheads)
+        aheads.append(0 if deed[0] == "put" else len(tree[deed[1]]))
         do_deed(tree, deed, put_cells(deed))
         if uses[(hand, number)] > 0:
             trees[(hand, number)] = tree
-    return None
+    return (None, aheads)
+
+
+def lengths_ahead(history):
+    """For each save of a checked history the length that the entry has ahead of its deed, 0 for a put."""
+    refused, aheads = deeds_walked(history)
+    return aheads
 
 
 def taken_tree(trees, uses, base):
@@ -152,6 +165,11 @@ def version(history, save):
     """The tree behind the deeds of the row of a save."""
     check_history(history)
     check_save_name(save)
+    return version_in(history, save)
+
+
+def version_in(history, save):
+    """The version of a save of a checked history."""
     tree = {}
     for one in named_row(history, save):
         do_deed(tree, one[3], put_cells(one[3]))

@@ -66,7 +66,14 @@ def frame_cells(body):
 
 def made_frame(body):
     """The text of the frame of a body."""
-    return window_text(frame_cells(body))
+    check_twenty(body)
+    return frames_text((body,))
+
+
+def frames_text(bodies):
+    """The texts of the frames of checked bodies, one behind the other."""
+    rows = further_rows()
+    return "".join([window_text(spread_cells(body, rows)) for body in bodies])
 
 
 def told_frame(text):

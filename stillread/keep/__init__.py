@@ -1,0 +1,1 @@
+"""Archives that are kept, and go on."""

@@ -1,0 +1,1 @@
+"""Papers, and the checker that takes them."""
