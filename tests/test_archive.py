@@ -105,8 +105,10 @@ class KnownTest(unittest.TestCase):
     def test_other_archives_and_what_is_no_body(self):
         odd = window_text((0,) * 40) + made_frame((1,) * 20)
         text = odd + text_of(all_frames(8, STORY)) + text_of(all_frames(7, STORY[:1])) + odd
-        self.assertEqual([known_saves(text, 7), known_saves(text, 8), known_saves(text, 9)],
-                         [((1, 1),), ((1, 1), (1, 2), (2, 1)), ()])
+        self.assertEqual([known_saves(text, archive) for archive in (7, 8, 9, 1)],
+                         [((1, 1),), ((1, 1), (1, 2), (2, 1)), (), ()])
+        self.assertEqual([Archive.continued(text, 1, 996).names, Archive.continued(text, 996, 1).names], [(), ()])
+        self.assertEqual(known_saves(text_of(all_frames(1, STORY)), 1), ((1, 1), (1, 2), (2, 1)))
         clashing = text + text_of(frames_of(9, (1, 1, None, NEW, 1), 0) + frames_of(9, (1, 1, None, ("put", "b", ()), 1), 0))
         self.assertEqual(known_saves(clashing, 7), ((1, 1),))
         with self.assertRaises(errors.Refused) as caught:

@@ -49,6 +49,7 @@ QUESTION = (errors.InvalidQuestion, list(wrong.ODD) + [
     ("cell", (1, 2), "a", -1), ("cell", (1, 2), "a", True), ("cell", (1, 2), "a", None), ("cell", (1, 2), "a", 0, 0),
     (("there",), (1, 2), "a"), (None, (1, 2), "a"), ("cell", (1, 2), ["a"], 0), ("there", (1, 2), None), Outline(None),
     ("cell", (1, 2), "a", 10 ** 59), (["cell"], (1, 2), "a", 0), ("length", (997, 2), "a"), ("where", (1, 2), "a"),
+    ("there", (1, 2), "a", 0, 0), ("length", (1, 2), "a", 0, 0),
 ])
 HISTORY = (errors.InvalidHistory, wrong.odd_but(
     lambda value: value == () or repr(value) == repr(((1, 1, None, ("put", "a", ()), 1),))) + [
@@ -254,6 +255,22 @@ class PapersTest(unittest.TestCase):
                         rows = [tuple(reversed(names[stop:names.index(save) + 1])) for stop in range(len(names))]
                         self.assertIn(True, [takes(frames, ("cell", save, name, at), cells[at], (row, ("own",))) for row in rows])
 
+    def test_rows_with_each_save(self):
+        saves = ((1, 1, None, ("put", "a", (10, 11, 12, 13, 14)), 1), (1, 2, (1, 1), ("put", "b", ()), 1),
+                 (1, 3, (1, 2), ("put", "c", ()), 1), (1, 4, (1, 1), ("patch", "a", 1, 0, (9,)), 1))
+        frames, question = all_frames(7, saves), ("cell", (1, 3), "a", 0)
+        for row, right in ((((1, 3), (1, 2), (1, 1)), True), (((1, 3), (1, 1)), False), (((1, 2), (1, 1)), False),
+                           (((1, 3), (1, 2), (1, 2), (1, 1)), False), (((1, 3), (1, 2)), False), (((1, 1),), False)):
+            self.assertIs(takes(frames, question, 10, (row, ("own",))), right, row)
+        whole = ((1, 3), (1, 2), (1, 1))
+        for at in range(4, 8):
+            for told in (("own",), ("poly", (0,), ())):
+                self.assertIs(takes(frames, question[:3] + (at,), 0, (whole, told)), False)
+        self.assertIs(takes(frames, ("cell", (1, 4), "a", 0), 0, (((1, 4),), ("poly", (0,), ()))), False)
+        self.assertIs(takes(frames, ("cell", (1, 4), "a", 0), 10, (((1, 4), (1, 1)), ("own",))), True)
+        self.assertIs(takes(frames, ("cell", (1, 4), "a", 1), 9, (((1, 4),), ("own",))), True)
+        self.assertIs(takes(frames, ("cell", (1, 4), "a", 2), 0, (((1, 4),), ("own",))), False)
+
     def test_known_places_of_bent_frames(self):
         seven = frames_of(7, (3, 1, None, ("put", "c", tuple(range(1, 8))), 4), 0)
         twin = with_payload(seven[0], 0, (500, 2, 3, 4, 5, 6))
@@ -269,6 +286,11 @@ class PapersTest(unittest.TestCase):
             question = ("cell", (3, 1), "c", at)
             self.assertIs(takes(frames, question, cell, (row, paper)), plain_takes(frames, question, cell, (row, paper)))
         self.assertIs(takes(frames, ("cell", (3, 1), "c", 0), 9, (row, ("poly", (1,), (9,)))), True)
+        longer = frames_of(7, (3, 1, None, ("put", "c", tuple(range(1, 13))), 4), 0)
+        frames = (seven[0], longer[1])
+        self.assertEqual(plain_column(plain_sights(frames)[(3, 1)], 5), {0: 6, 1: 12})
+        for poly, right in (((6, 6), True), ((6, 991), False)):
+            self.assertIs(takes(frames, ("cell", (3, 1), "c", 5), 6, (row, ("poly", (0, 1), poly))), right)
 
     def test_values_that_are_no_paper(self):
         trail, by = ((1, 1),), (2, 1)
@@ -287,7 +309,7 @@ class PapersTest(unittest.TestCase):
         self.assertIs(takes(FRAMES, question, 8, (row, ("own",))), True)
         for paper in wrong.ODD + (
             [row, ("own",)], (list(row), ("own",)), (row, ["own"]), (row, ("Own",)), (row, ("own", 0)), (row,), (row, ("own",), 0),
-            (((1, True),), ("own",)), (((1, 2), (1, 1)), ("own",)), (((1, 1),), ("own",)), ((), ("own",)), (None, ("own",)),
+            (((1, True),), ("own",)), (((True, 2),), ("own",)), (((1, 2), (1, 1)), ("own",)), (((1, 1),), ("own",)), ((), ("own",)), (None, ("own",)),
             (row, None), (row, "own"), (row, ("poly", (1,), [8])), (row, ("poly", [1], (8,))), (row, ("poly", (True,), (8,))),
             (row, ("poly", (1,), (8, 0))), (row, ("poly", (0, 1), (8,))), (row, ("poly", (2,), (8,))), (row, ("poly", (), ())),
             (row, ("poly", (1,), (9,))), (row, ("poly", (1,))), (row, ("poly", None, (8,))), (row, ("poly", (1,), None)),
@@ -396,6 +418,9 @@ class ClashTest(unittest.TestCase):
             ("poly", (1, 2), 1), right[2] + (0,), ("Poly",) + right[2][1:], ("poly", (1, 2), 1, None), ("poly", (1, 2), -5, (0, 1)),
             ("poly", None, 1, (0, 1)), Outline(None), ("poly", (1, 2), 1, (0, 2)), ("marks", None, None), (right[0],),
             ("ring", ((1, 1), (1, 2))), ("deed", (1, 2), ("gone", "a")), ("gap", (1, 1), "a", (1, 2), (1, 2)), ("marks", 1, 2),
+            ("marks", near[0][:1] + (True,) + near[0][2:], drop[0]), ("marks", near[0], drop[0][:1] + (True,) + drop[0][2:]),
+            ("index", with_payload(near[0], 0, (0,) * 6), near[0]), ("poly", (1, 2), -1, (0, 1)),
+            ("marks", with_payload(near[0], 0, (0,) * 6), drop[0]),
         ):
             self.assertIs(is_clash(frames, value), False, repr(value)[:60])
 

@@ -216,6 +216,9 @@ class SketchClashTest(unittest.TestCase):
             for value in (ring[::-1], ring + ring, ring[:1], ring[1:], (), list(ring), ring + ((9, 9),), (ring,)):
                 right = isinstance(value, tuple) and value == ring[::-1] and len(ring) == 2
                 self.assertIs(is_clash_of(sketch, ("ring", value)), right, value)
+        sketch = {(1, 1): ((2, 5), put), (2, 1): ((1, 3), put)}
+        self.assertIs(is_clash_of(sketch, ("ring", ((1, 1), (1, 2), (1, 3), (2, 1), (2, 5)))), False)
+        self.assertIs(is_clash_of(sketch, ("ring", ((1, 1), (1, 3), (2, 1), (2, 4), (2, 5)))), False)
 
     def test_values_that_are_no_clash(self):
         deed, gap = ("deed", (1, 4), ("gone", "a")), ("gap", GAP, "b", (1, 3), (5, 1))
@@ -231,7 +234,7 @@ class SketchClashTest(unittest.TestCase):
                 ("gap", GAP, "b", (1, 3), (1, 3)), ("gap", GAP, "b", (1, 2), (5, 1)), ("gap", (2, True), "b", (1, 3), (5, 1)),
                 ("gap", GAP, ["b"], (1, 3), (5, 1)), ("gap", GAP, None, (1, 3), (5, 1)), ("gap", GAP, "b", [1, 3], (5, 1)),
                 ("gap", GAP, "b", (True, 3), (5, 1)), ("gap", None, "b", (1, 3), (5, 1)), ("gap", GAP, "b", None, (5, 1)),
-                ("gap", GAP, "b", (1, 3), (6, 1)), ("gap", (6, 6), "b", (1, 3), (5, 1)), ("deed", (1, 4), Outline(None)),
+                ("gap", GAP, "b", GAP, (5, 1)), ("gap", GAP, "b", (1, 3), GAP), ("gap", GAP, "b", (1, 3), (6, 1)), ("gap", (6, 6), "b", (1, 3), (5, 1)), ("deed", (1, 4), Outline(None)),
             ):
                 self.assertIs(is_clash_of(sketch, value), False, repr(value)[:80])
 

@@ -176,16 +176,24 @@ class ClashTest(unittest.TestCase):
             ("poly", 0, (0, 1), 1, (1, 6)), ("poly", 1, (0, 1), 3, (1, 6)), ("Poly", 0, (0, 1), 3, (1, 6)),
             ("poly", 0, (0, 1), 2, (1, 6)), ("index", 0), ("index", 3), ("poly", 0, (0, 1), 3, (1, 6, 0, 1)),
             ("poly", -6, (0, 1), 3, (1, 6)), ("poly", 0, (0, 1), 3, None), ("poly", 0, None, 3, (1, 6)),
+            ("poly", 0, (0, 1), 3, (1, 5, 1)), ("poly", 0, (0, 3), True, (1, 332)),
         ):
             self.assertIs(is_lot_clash(OTHER, value), False, repr(value)[:60])
         for value in wrong.ODD + (("index", False), ["index", 0], ("index", 1), ("index",), ("index", 0, 0),
                                   ("index", None), ("index", "0"), ("index", 10 ** 59), (0, 0)):
             self.assertIs(is_lot_clash(TWICE, value), False, repr(value)[:60])
 
+    def test_places_and_columns_are_no_truth_values_and_not_below_0(self):
+        self.assertIs(is_lot_clash(OTHER, ("poly", 0, (0, 3), 1, (1, 332))), True)
+        lot = (SEVEN[0], SEVEN[1], with_payload(SEVEN[2], 2, (13, 995, 994, 993, 992, 5)))
+        self.assertIs(is_lot_clash(lot, ("poly", 5, (0, 1), 2, (6, 991))), True)
+        self.assertIs(is_lot_clash(lot, ("poly", -1, (0, 1), 2, (6, 991))), False)
+
     def test_two_frames_with_one_index_go_ahead_of_all_else(self):
         lot = tuple(sorted(OTHER + (with_payload(OTHER[0], 0, (9, 9, 9, 9, 9, 9)),)))
         self.assertEqual(lot_clash(lot), ("index", 0))
-        self.assertIs(is_lot_clash(lot, ("poly", 0, (0, 1), 3, (1, 6))), False)
+        for poly in ((1, 6), (9, 995), (9, 6)):
+            self.assertIs(is_lot_clash(lot, ("poly", 0, (0, 1), 3, poly)), False)
         self.assertEqual(lot_clash(TWICE), ("index", 0))
         wrong.check_raises(self, (errors.Refused, {"reason": ("index", 0)}), told_cells, (TWICE,))
 
@@ -295,13 +303,15 @@ class AnswersTest(unittest.TestCase):
             ("poly", (1, 2, 3), (1, 6)), ("poly", (1, 2), (1, 6, 0)), ("poly", (1, 1), (1, 6)), (1, (1, 2), (1, 6)),
         ):
             self.assertIs(is_cell_paper(lot, 0, 1, value), False, repr(value)[:60])
+            self.assertIs(is_cell_paper(lot, 6, 7, value), False, repr(value)[:60])
+        self.assertIs(is_cell_paper(lot, 0, 1, ("poly", (1, 2), (1, 8, 994, 1))), False)
         one = frames_of(9, (3, 1, None, ("put", "c", (1,) * 7), 4), 0)
         for cell in wrong.ODD + (None, True, "1", (1,), [1], 998, -996):
             right = wrong.is_int(cell, 1, 1)
             self.assertIs(is_cell_paper(one, 0, cell, ("own",)), right)
             self.assertIs(is_cell_paper(one, 0, cell, ("poly", (0, 1), (1,))), right)
         for value in wrong.ODD + ([995, 1], (995, True), (995, 1, 0), (995, 0), (0, 1), (), (1,), None,
-                                  (995, 1, 1), (994, 1)):
+                                  (995, 1, 1), (994, 1), (10, 990, 1)):
             self.assertIs(is_open_paper(SEVEN[2:3], 0, value), False, repr(value)[:60])
         for value in ((995, 1), (2, 996), (993, 2)):
             self.assertIs(is_open_paper(SEVEN[2:3], 0, value), True)

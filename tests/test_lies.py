@@ -225,8 +225,14 @@ class PolysTest(unittest.TestCase):
             [some, q, l], (list(some), q, l), (some, list(q), l), (some, q, list(l)), (some, q), (some, q, l, 0),
             (some[::-1], q, l), ((False,) + some[1:], q, l), (some, q + (0,), l), (some, q, l + (0,)),
             (None, q, l), (some, None, l), (some, q, None), (some + (4,), q, l), (some + some, q, l),
+            (some, (), none_at((2, 3))),
         ):
             self.assertIs(is_none_paper(2, (), word, 1, value), False, repr(value)[:60])
+        self.assertIs(is_none_paper(2, (0,), (5, 0, 1, None, 1), 0, ((1, 2), (), (1,))), False)
+        self.assertIs(is_none_paper(2, (0,), (0, 0, 1, None, 1), 0, ((0, 1), (), (1,))), False)
+        self.assertIs(is_none_paper(2, (0,), (5, 0, 1, None, 1), 0, ((1,), (), (1,))), True)
+        self.assertIs(is_none_paper(2, (0,), (5, 0, 1, None, 1), 0, ((3,), (), (1,))), False)
+        self.assertIs(is_none_paper(2, (0,), (0, 0, 1, None, 1), 0, ((0,), (), (1,))), False)
         self.assertIs(is_none_paper(2, (), word, 1, (some, q, l)), True)
         for e in range(2, 9):
             self.assertIs(is_none_paper(2, (), word, e, (some, q, l)), False)
@@ -332,7 +338,8 @@ class TwoNearTest(unittest.TestCase):
             list(right), ([0, 1], (), (1,)), ((0, True), (), (1,)), ((0, 1), [], (1,)), ((0, 1), (), (True,)),
             ((0, 1), (), (1, 0)), ((0, 1), (), ()), ((0, 1, 0), (), (1,)), ((0,), (), (1,)), ((0, None), (), (1,)),
             ((0, 1), (), (2,)), ((0, 1), (), (0, 1)), right[:2], right + (1,), (None, (), (1,)), ((0, 1), None, (1,)),
-            ((False, 1), (), (1,)), ((0, 1), (), None), ((0, 997), (), (1,)),
+            ((False, 1), (), (1,)), ((0, 1), (), None), ((0, 997), (), (1,)), ((0, 1, None), (), (1,)),
+            ((0, 0), (5,), ()), ((0, 0), (), (5,)),
         ):
             self.assertIs(is_two_near(1, (), 2, (0, 1), 1, value), False, repr(value)[:60])
         self.assertIs(is_two_near(1, (), 2, (0, 1), 0, right), False)
@@ -423,6 +430,9 @@ class LotsTest(unittest.TestCase):
         for value in ((word, 1, own), (word, False, own), (word, "0", own), [word, 0, own], (word, 0, own, 0),
                       (word, 0), (word, 0, list(own)), ("Column", 0, own), (word, -6, own), (word, 7, own)):
             self.assertIs(is_lot_paper(2, rows, 1, value), False, value)
+        last = ((0, 0, 0, 0, 0, 1), (0, 0, 0, 0, 0, 2), (0, 0, 0, 0, 0, 3))
+        self.assertIs(is_lot_paper(6, last, 1, (word, 5, own)), True)
+        self.assertIs(is_lot_paper(6, last, 1, (word, -1, own)), False)
         filled = (((1, 0, 0, 0, 0, 0), (1,) + (0,) * 5, (2,) + (0,) * 5))
         self.assertIs(is_lot_paper(1, filled, 0, (word, 0, none_paper(1, (), (1, 1, 2), 0))), True)
         self.assertIs(is_lot_paper(1, filled, 0, (word, 3, none_paper(1, (), (1, 1, 2), 0))), False)

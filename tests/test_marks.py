@@ -39,7 +39,7 @@ WRONG_ROWS = tuple(value for value in wrong.ODD if value != ()) + (
     ((("below", (1, 2)), 0, 1),), ((("new", "a"), 0, 1),), ((("new", (0, 2)), 0, 1),), ((("new", (1, True)), 0, 1),),
     ((("new", (1, 2, 3)), 0, 1),), ((("New", (1, 2)), 0, 1),), ((("new",), 0, 1),), ((("new", (1, 2), 1), 0, 1),),
     ((BELOW, 0, 1), (BELOW, 1, 1)), ((NEW, 0, 1), (BELOW, 3, 2), (BELOW, 5, 9)), (BELOW, 0, 1), ((BELOW, "0", 1),),
-    ((BELOW, 0, None),), ((None, 0, 1),), ((BELOW, 10 ** 99, 1),), ((BELOW, 0, 10 ** 99),), (None,), ((0, 0, 1),),
+    ((BELOW, 0, None),), ((None, 0, 1),), ((BELOW, 10 ** 60, 1),), ((BELOW, 0, 10 ** 60),), (None,), ((0, 0, 1),),
     ((("below", ["a"]), 0, 1),), ((({}, "a"), 0, 1),), (Outline(None),), Outline(None), ((BELOW, 0, 1), None),
     (((True, "a"), 0, 1),), ((("new", [1, 2]), 0, 1),), ((("new", None), 0, 1),), ((("below", ""), 0, 1),),
 )
@@ -142,7 +142,8 @@ class RowsTest(unittest.TestCase):
     def test_is_row(self):
         for value in ((), ((BELOW, 0, 1),), ((NEW, 40, 8),), ((BELOW, 0, 1), (BELOW, 2, 1)), ((BELOW, 0, 1), (NEW, 1, 1)),
                       ((BELOW, 0, 1), (("below", "b"), 1, 1)), ((BELOW, 0, 2), (BELOW, 0, 2)), ((BELOW, 995, 1),),
-                      ((BELOW, 3, 1), (BELOW, 2, 1)), ((NEW, 0, 1), (("new", (1, 3)), 1, 1)), ((NEW, 0, 1),) * 3):
+                      ((BELOW, 3, 1), (BELOW, 2, 1)), ((NEW, 0, 1), (("new", (1, 3)), 1, 1)), ((NEW, 0, 1),) * 3,
+                      ((BELOW, 10 ** 60 - 1, 10 ** 60 - 1),)):
             self.assertIs(is_row(value), True, value)
         for value in WRONG_ROWS:
             self.assertIs(is_row(value), False, repr(value)[:60])

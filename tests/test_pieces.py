@@ -261,6 +261,9 @@ class OutlinesTest(unittest.TestCase):
         self.assertFalse(asked == Outline(GAP).behind(SAVE, ("drop", "a", 3)))
         self.assertTrue(asked == Outline(GAP).behind((2, 2), ("drop", "a", 2)))
         self.assertFalse(Outline(None) == Outline(GAP))
+        dropped = followed(Outline(None), (SAVE, ("put", "a", 2)), ((1, 2), ("drop", "a", 2)))
+        self.assertFalse(dropped == Outline(None))
+        self.assertEqual([dropped.entries, dropped.asks, dropped.gone], [{}, {}, ("a",)])
 
     def test_drawn_outlines_of_sketches(self):
         for _ in range(150):

@@ -75,9 +75,11 @@ def said_at_end(told, save, name, paper):
 
     None if the paper is no such one for this save.
     """
-    if len(paper) != 3 or not is_trail(told, name, paper[0]) or paper[0][0] != save:
+    if len(paper) != 3:
         return None
     trail, word, by = paper
+    if not is_trail(told, name, trail) or trail[0] != save:
+        return None
     last = trail[-1]
     if word == "above":
         return said_above(told, last, name, by) if is_save_name(by) else None
@@ -118,12 +120,10 @@ def is_rooted(sight, name):
 
 
 def is_trail(told, name, value):
-    """Whether the value is a trail for the name."""
+    """Whether the value is a trail for the name, its first save being named."""
     if not isinstance(value, tuple) or not value or not all([is_save_name(save) for save in value]):
         return False
-    named = named_in(told)
-    if not all([save in named for save in value]):
-        return False
+    # Each further save is there, or the base of one that is: so it is named, too.
     return all([is_silent(told, name, one, other) or is_silent(told, name, other, one)
                 for one, other in zip(value, value[1:])])
 
@@ -139,8 +139,6 @@ def is_cell_paper(told, question, answer, paper):
         return False
     row, kind = paper
     name, place = led_along(told, row[:-1], question[2], question[3])
-    if name is None:
-        return False
     sight = told[row[-1]]
     index = new_index(sight[2], name, place)
     if index is None:
@@ -164,8 +162,11 @@ def led_along(told, row, name, place):
 
 
 def led_below(mark, name, place):
-    """The pair of the name and the place of a cell at the base of a save with this mark."""
-    if name is None or not does_speak(mark, name):
+    """The pair of the name and the place of a cell at the base of a save with this mark.
+
+    Of the name None, when the cell comes from a save ahead, no deed speaks.
+    """
+    if not does_speak(mark, name):
         return (name, place)
     if mark[0] == "rename" and mark[2] == name:
         return (mark[1], place)
@@ -227,8 +228,6 @@ def has_frames(history, frames):
 
 def are_had(history, frames):
     """The same for a checked history and checked frames."""
-    if not frames:
-        return True
     wanted = {save_in(body): True for body in frames}
     had = {}
     for save, ahead in zip(history, lengths_ahead(history)):

@@ -188,7 +188,7 @@ def is_gap_clash(sketch, value):
     if not is_name(name) or not all([is_save_name(save) for save in (gap, one, other)]) or not one < other:
         return False
     outlines = outlines_in(sketch)
-    if gap in sketch or not all([save in sketch and save in outlines for save in (one, other)]):
+    if not all([save in sketch and save in outlines for save in (one, other)]):
         return False
     if outlines[one].ground != gap or outlines[other].ground != gap:
         return False

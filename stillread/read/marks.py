@@ -117,7 +117,7 @@ def check_sketch(sketch):
 
 def is_source(value):
     """Whether the value is a source of cells."""
-    if not isinstance(value, tuple) or len(value) != 2 or not isinstance(value[0], str):
+    if not isinstance(value, tuple) or len(value) != 2:
         return False
     return (value[0] == "new" and is_save_name(value[1])) or (value[0] == "below" and is_name(value[1]))
 
