@@ -190,6 +190,22 @@ class RowsTest(unittest.TestCase):
             [row], row, (row, None), (row, list(row))] + [(value,) for value in WRONG_ROWS])
         wrong.check_wrong(self, row_joined, ((row, row),), (rows,))
 
+    def test_integers_of_more_than_sixty_digits(self):
+        longest = 10 ** 60 - 1
+        great = (("below", "a"), 0, longest)
+        rows = ((great, great), (great, (("below", "b"), 0, longest), (("new", (1, 2)), 0, 2)))
+        for row in rows:
+            self.assertGreater(row_length(row), 10 ** 60)
+            for number in (10 ** 60, 10 ** 60 + 5, row_length(row), 10 ** 99, -10 ** 60):
+                for function, given in ((row_part, (row, number, number)), (row_part, (row, 5, number)),
+                                        (row_part, (row, number, 5)), (origin, (row, number))):
+                    wrong.check_raises(self, (errors.InvalidNumber, {"given": number}), function, given)
+            self.assertEqual(row_part(row, longest, longest), ())
+            self.assertEqual(row_part(row, 5, longest), ((("below", "a"), 5, longest - 5),))
+            self.assertEqual(origin(row, longest - 1), (("below", "a"), longest - 1))
+            self.assertEqual(origin(row, longest), (row[1][0], 0))
+        self.assertEqual(row_length(row_joined(rows)), row_length(rows[0]) + row_length(rows[1]))
+
 
 if __name__ == "__main__":
     unittest.main()

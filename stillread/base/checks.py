@@ -2,10 +2,15 @@
 
 from stillread.errors import InvalidNumber
 
+LONGEST = 10 ** 60 - 1
+
 
 def is_number(value, least, most):
-    """Whether the value is an integer within the bounds."""
-    return isinstance(value, int) and not isinstance(value, bool) and least <= value <= most
+    """Whether the value is an integer of at most sixty digits within the bounds."""
+    if not isinstance(value, int) or isinstance(value, bool):
+        return False
+    # The bounds can be longer than what may be passed, such as the number of the cells of a row.
+    return max(least, -LONGEST) <= value <= min(most, LONGEST)
 
 
 def check_number(given, least, most):

@@ -1,6 +1,6 @@
 """Marks of deeds, sketches of saves, and rows of pieces that tell where cells come from."""
 
-from stillread.base.checks import check_number, is_number
+from stillread.base.checks import LONGEST, check_number, is_number
 from stillread.base.names import is_cells, is_name
 from stillread.errors import InvalidCells, InvalidDeed, InvalidOperation, InvalidSketch, Refused
 from stillread.plain.histories import is_save_name
@@ -126,8 +126,7 @@ def is_piece(value):
     """Whether the value is a piece."""
     if not isinstance(value, tuple) or len(value) != 3 or not is_source(value[0]):
         return False
-    most = 10 ** 60 - 1
-    return is_number(value[1], 0, most) and is_number(value[2], 1, most)
+    return is_number(value[1], 0, LONGEST) and is_number(value[2], 1, LONGEST)
 
 
 def does_go_on(piece, other):
