@@ -47,7 +47,26 @@ INTERFACE = {
     "stillread.read.constraints": """
         gaps(sketch) above(sketch,gap) says(sketch,save) clash_of(sketch) is_clash_of(sketch,value) said(sketch,gap)
         fitting_tree(sketch,gap) is_fitting(sketch,gap,value) sights(frames) sketch_of(frames) clash(frames)""",
+    "stillread.read.told": """reach(frames,save,name) answer_of(frames,question) Reading(frames)""",
+    "stillread.read.unlike": """
+        free_numbers(frames) is_filling(frames,value) some_filling(frames) filling_of(frames,history)
+        filled(frames,filling) version_by(frames,filling,save) unlike_histories(frames,question)""",
+    "stillread.mend.mender": """told_frames(frames) is_closed(frames) lacks(frames) mended(text) clean(text)""",
+    "stillread.need.least": """
+        further_indices(lot,wanted) are_further_indices(lot,wanted,value) least_further(frames,save,name)
+        is_least_further(frames,save,name,value) least_loss(history,save,name,at)
+        is_least_loss(history,save,name,at,value) borne(history,save,name)""",
+    "stillread.need.spread": """
+        strands(lots) greatest_window(lots) spreading(lots) borne(lots,order) weak_stretch(lots,order)
+        spread_answer(lots,many) is_spread_paper(spread,value) cut_signs(many) spread_text(frames)""",
     "stillread.keep.archive": """known_saves(text,archive) Archive(archive,hand)""",
+    "stillread.keep.folds": """
+        steps(one,other) distance(one,other) fold(trees,hand,more) is_fold(trees,value) fold_number(trees)
+        kept(frames,saves,hand,more)""",
+    "stillread.use.texts": """
+        deed_text(deed) question_text(question) tree_text(tree) history_text(history) answer_text(question,answer)
+        read_deed(value) read_question(value) read_tree(value) read_history(value)""",
+    "stillread.use.shell": """Shell(archive,hand)""",
     "stillread.paper.checker": """
         is_question(value) takes(frames,question,answer,paper) is_clash(frames,value) has_frames(history,frames)
         answer_in(history,question) is_unlike(frames,question,value)""",
@@ -56,10 +75,31 @@ METHODS = {
     ("stillread.read.pieces", "Outline"): "behind(save,mark) does_fit(tree) filled(tree,cells) __eq__(other) __len__()",
     ("stillread.keep.archive", "Archive"): """
         add(deed,base,more) hear(text) version(save) known(save) history() __contains__(value) __len__() __str__()""",
+    ("stillread.read.told", "Reading"): """
+        answer(question) known_entries(save) is_rooted(save) is_whole(save) open_cells(save) versions() __eq__(other)
+        __len__() __str__()""",
+    ("stillread.use.shell", "Shell"): """run(line) run_all(lines) __str__()""",
 }
 PROPERTIES = {
     ("stillread.read.pieces", "Outline"): "ground entries asks gone",
     ("stillread.keep.archive", "Archive"): "archive hand text names heads made",
+    ("stillread.read.told", "Reading"): "frames saves gaps",
+    ("stillread.use.shell", "Shell"): "text place",
+}
+CONSTANTS = {
+    "stillread.base.names": {"PRIME": 997, "MAX_CELL": 996, "MAX_NAME": 4},
+    "stillread.base.polys": {"MOST_CELLS": 60},
+    "stillread.text.cells": {"MOST_SIGNS": 60000, "WINDOW_SIGNS": 122, "WINDOW_CELLS": 40, "MOST_DIGITS": 20000},
+    "stillread.text.frames": {"FRAME_CELLS": 40, "BODY_CELLS": 20},
+    "stillread.text.damage": {"MOST_ACTS": 60},
+    "stillread.lots.spread": {"BODY": 20, "ROW": 6, "MAX_NEW": 48, "MOST_FRAMES": 16},
+    "stillread.lots.wrong": {"MOST_FRAMES": 16, "MOST_ROWS": 8},
+    "stillread.plain.trees": {"MOST_LENGTH": 996, "MOST_NEW": 48},
+    "stillread.plain.histories": {"MOST_FRAMES": 16, "ROW": 6},
+    "stillread.keep.archive": {"MOST_SAVES": 60, "MOST_TEXT": 60000},
+    "stillread.read.unlike": {"MOST_PUTS": 13000},
+    "stillread.need.spread": {"MOST_LOTS": 12, "MOST_FRAMES": 16},
+    "stillread.keep.folds": {"MOST_TREES": 12, "MOST_NUMBER": 996},
 }
 
 
@@ -81,6 +121,16 @@ class InterfaceTest(unittest.TestCase):
                 self.assertEqual(list(inspect.signature(told[method]).parameters), wanted, (word, method))
             for one in PROPERTIES[(name, word)].split():
                 self.assertIsInstance(told[one], property, (word, one))
+    def test_constants(self):
+        for name, told in CONSTANTS.items():
+            module = vars(importlib.import_module(name))
+            self.assertEqual({word: module[word] for word in told}, told)
+
+    def test_keywords(self):
+        for word, ahead in (("fold", ["trees", "hand"]), ("kept", ["frames", "saves", "hand"])):
+            told = inspect.signature(getattr(importlib.import_module("stillread.keep.folds"), word)).parameters
+            self.assertEqual([list(told), told["more"].kind, told["more"].default],
+                             [ahead + ["more"], inspect.Parameter.KEYWORD_ONLY, 0])
         archive = importlib.import_module("stillread.keep.archive").Archive
         self.assertIsInstance(vars(archive)["continued"], classmethod)
         self.assertEqual(list(inspect.signature(archive.continued).parameters), ["text", "archive", "hand"])

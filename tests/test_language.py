@@ -25,8 +25,9 @@ NODES = (
     ast.List, ast.Tuple, ast.Dict, ast.ListComp, ast.DictComp, ast.SetComp, ast.comprehension, ast.IfExp,
     ast.BoolOp, ast.And, ast.Or, ast.UnaryOp, ast.Not, ast.USub, ast.BinOp, ast.Add, ast.Sub, ast.Mult,
     ast.FloorDiv, ast.Mod, ast.Pow, ast.Compare, ast.cmpop, ast.JoinedStr, ast.FormattedValue, ast.ImportFrom,
-    ast.alias,
+    ast.alias, ast.Lambda, ast.Try, ast.ExceptHandler,
 )
+CHANGING = set("append clear extend insert pop remove reverse setdefault update".split())
 
 
 def sources():
@@ -168,6 +169,48 @@ class WordsTest(unittest.TestCase):
                     self.assertFalse(node.name in barred, (path, node.name))
                 if isinstance(node, ast.Call) and isinstance(node.func, ast.Attribute):
                     self.assertIn(node.func.attr, known, path)
+
+    def test_tables_at_module_level_are_only_read(self):
+        for path, tree in trees().items():
+            tables = {node.targets[0].id for node in tree.body if isinstance(node, ast.Assign) and isinstance(
+                node.value, (ast.Dict, ast.List))}
+            for parent in ast.walk(tree):
+                for node in [child for child in ast.iter_child_nodes(parent) if isinstance(child, ast.Name)]:
+                    if node.id in tables and isinstance(node.ctx, ast.Load):
+                        self.assertIsInstance(parent, (ast.Subscript, ast.Compare, ast.Attribute), (path, node.id))
+                        self.assertFalse(getattr(parent, "attr", "get") in CHANGING, (path, node.id))
+
+    def test_loops_do_not_change_what_they_go_over(self):
+        for path, tree in trees().items():
+            for loop in [node for node in ast.walk(tree) if isinstance(node, ast.For)]:
+                over = {ast.unparse(node) for node in ast.walk(loop.iter) if isinstance(node, (ast.Name, ast.Attribute))}
+                for node in [inner for row in loop.body for inner in ast.walk(row)]:
+                    if isinstance(node, ast.Call) and isinstance(node.func, ast.Attribute) and node.func.attr in CHANGING:
+                        self.assertNotIn(ast.unparse(node.func.value), over, (path, loop.lineno))
+                    if isinstance(node, ast.Subscript) and isinstance(node.ctx, (ast.Store, ast.Del)):
+                        self.assertNotIn(ast.unparse(node.value), over, (path, loop.lineno))
+
+    def test_handlers_name_own_errors_once(self):
+        own = {node.name for node in ast.walk(trees()[PACKAGE / "errors.py"]) if isinstance(node, ast.ClassDef)}
+        for path, tree in trees().items():
+            for function in [node for node in ast.walk(tree) if isinstance(node, ast.FunctionDef)]:
+                handlers = [node for node in ast.walk(function) if isinstance(node, ast.ExceptHandler)]
+                names = [one.name for one in handlers if one.name] + local_names(function)
+                self.assertEqual(len([name for name in names if names.count(name) > 1 and handlers]), 0, path)
+                for one in handlers:
+                    words = {node.id for node in ast.walk(one.type) if isinstance(node, ast.Name)}
+                    self.assertTrue(words and words <= own, path)
+
+    def test_sets_are_not_kept_or_iterated(self):
+        kinds = (ast.Set, ast.SetComp)
+        for path, tree in trees().items():
+            for parent in ast.walk(tree):
+                for node in ast.iter_child_nodes(parent):
+                    made = isinstance(node, ast.Call) and isinstance(node.func, ast.Name) and node.func.id == "set"
+                    if made or isinstance(node, kinds):
+                        judged = isinstance(parent, (ast.Compare, ast.Assign)) or (
+                            isinstance(parent, ast.Call) and ast.unparse(parent.func) in ("sorted", "len"))
+                        self.assertTrue(judged, (path, ast.unparse(parent)))
 
 
 if __name__ == "__main__":

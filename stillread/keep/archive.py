@@ -7,7 +7,7 @@ from stillread.lots.spread import base_in, is_body, mark_in, save_bodies
 from stillread.plain.histories import MOST_FRAMES, MOST_HAND, check_save_name, is_save_name, rows_for
 from stillread.plain.sequences import sequence_of
 from stillread.plain.trees import check_deed, do_deed, put_cells, refusal_of, sorted_tree
-from stillread.read.constraints import clash_in_frames
+from stillread.read.constraints import check_agreeing
 from stillread.read.marks import deed_made
 from stillread.text.cells import WINDOW_SIGNS, check_text
 from stillread.text.frames import bodies_in, frames_text
@@ -16,16 +16,14 @@ MOST_SAVES = 60
 MOST_TEXT = 60000
 
 
+def standing(text):
+    """The ascending tuple of the bodies of all frames that stand in a text."""
+    return tuple([body for body in bodies_in(text) if is_body(body)])
+
+
 def standing_frames(text, archive):
-    """The ascending tuple of the bodies of the frames of an archive that stand in a checked text."""
-    return tuple([body for body in bodies_in(text) if body[0] == archive and is_body(body)])
-
-
-def refuse_clash(frames):
-    """Refused with a clash if the frames do not agree."""
-    found = clash_in_frames(frames)
-    if found is not None:
-        raise Refused(found)
+    """The same of the frames of one archive."""
+    return tuple([body for body in standing(text) if body[0] == archive])
 
 
 def known_in(frames):
@@ -48,7 +46,7 @@ def known_saves(text, archive):
     check_text(text)
     check_number(archive, 1, MOST_HAND)
     frames = standing_frames(text, archive)
-    refuse_clash(frames)
+    check_agreeing(frames)
     return tuple(sorted(known_in(frames)))
 
 
@@ -90,7 +88,7 @@ class Archive:
         check_number(archive, 1, MOST_HAND)
         check_number(hand, 1, MOST_HAND)
         frames = standing_frames(text, archive)
-        refuse_clash(frames)
+        check_agreeing(frames)
         if any([does_name(body, hand) for body in frames]):
             raise Refused(("hand", hand))
         going_on = cls(archive, hand)
@@ -158,7 +156,7 @@ class Archive:
         fresh = tuple([body for body in standing_frames(text, self._archive) if body not in own])
         if any([self._is_foreign(body) for body in fresh]):
             raise Refused(("hand", self._hand))
-        refuse_clash(self._frames + fresh)
+        check_agreeing(self._frames + fresh)
         self._check_room(len(fresh))
         ahead = self.names
         self._write(frames_text(fresh), fresh)

@@ -38,6 +38,21 @@ def number_at(known, many, place):
     return evaluated(poly_through(known, many), place)
 
 
+def paper_at(known, many, place):
+    """The paper for what a column has at a place that is not open."""
+    if place in known:
+        return ("own",)
+    return ("poly", tuple(list(known)[:many]), poly_through(known, many))
+
+
+def told_numbers(known, many, places):
+    """What a column has at the places of a list, None for each that is open."""
+    if len(known) < many:
+        return [known.get(place) for place in places]
+    poly = poly_through(known, many)
+    return [evaluated(poly, place) for place in places]
+
+
 def off_place(known, many):
     """The first known place that is off the poly through the first `many` ones, None if none is."""
     poly = poly_through(known, many)

@@ -4,7 +4,7 @@ from stillread.base.checks import check_number, is_ascending, is_number
 from stillread.base.names import PRIME, is_cell, is_cells
 from stillread.base.polys import evaluated, interpolated, is_poly, with_roots
 from stillread.errors import InvalidBody, Refused
-from stillread.lots.columns import column_places, is_poly_at, number_at, off_place, poly_through
+from stillread.lots.columns import column_places, is_poly_at, number_at, off_place, paper_at, poly_through, told_numbers
 from stillread.lots.spread import MOST_FRAMES, ROW, check_frames, is_body, marks_in, save_in, spread
 from stillread.plain.histories import row_count
 
@@ -144,9 +144,7 @@ def cell_answer(lot, at):
     cell = number_at(known, many, row)
     if cell is None:
         return ("open", with_roots(list(known)))
-    if row in known:
-        return ("told", cell, ("own",))
-    return ("told", cell, ("poly", tuple(list(known)[:many]), poly_through(known, many)))
+    return ("told", cell, paper_at(known, many, row))
 
 
 def is_cell_paper(lot, at, cell, value):
@@ -183,9 +181,14 @@ def told_cells(lot):
 
 def cells_told(lot):
     """The new cells that a lot without a clash tells, None for each that is open."""
+    columns = columns_told(lot, rows_of(lot))
+    return tuple([columns[at % ROW][at // ROW] for at in range(length_of(lot))])
+
+
+def columns_told(lot, stop):
+    """For each column of a lot without a clash what it has ahead of a place, None for what is open."""
     many = rows_of(lot)
-    columns = [places_in(lot, column) for column in range(ROW)]
-    return tuple([number_at(columns[at % ROW], many, at // ROW) for at in range(length_of(lot))])
+    return [told_numbers(places_in(lot, column), many, list(range(stop))) for column in range(ROW)]
 
 
 def told_payload(lot, index):

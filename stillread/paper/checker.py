@@ -241,10 +241,10 @@ def answer_in(history, question):
     """The answer to a question in a history."""
     check_history(history)
     check_question(question)
-    return answer_of(history, question)
+    return answer_of_history(history, question)
 
 
-def answer_of(history, question):
+def answer_of_history(history, question):
     """The answer in a checked history, UnknownName unless it has the save."""
     tree = version_in(history, question[1])
     name = question[2]
@@ -263,4 +263,4 @@ def is_unlike(frames, question, value):
         return False
     if not all([is_history(history) and are_had(history, frames) for history in value]):
         return False
-    return answer_of(value[0], question) != answer_of(value[1], question)
+    return answer_of_history(value[0], question) != answer_of_history(value[1], question)

@@ -133,6 +133,14 @@ def do_deed(tree, deed, cells):
             tree[deed[2]] = entry
 
 
+def entry_deeds(name, cells):
+    """The list of the put and the patches that make an entry, each with as many cells as it can have."""
+    deeds = [("put", name, cells[:MOST_NEW])]
+    for at in range(MOST_NEW, len(cells), MOST_NEW):
+        deeds.append(("patch", name, at, 0, cells[at:at + MOST_NEW]))
+    return deeds
+
+
 def new_cells(deed):
     """The cells that the deed puts in."""
     check_deed(deed)

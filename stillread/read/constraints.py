@@ -202,22 +202,26 @@ def said(sketch, gap):
     found = clash_in_sketch(sketch)
     if found is not None:
         raise Refused(found)
-    return said_of(sketch, outlines_in(sketch), gap)
+    return said_in(outlines_in(sketch))[gap]
 
 
-def said_of(sketch, outlines, gap):
-    """What is said of a gap by the saves with outlines, which do not clash."""
+def said_in(outlines):
+    """The dict from all gaps to what is said of them by the saves with outlines, which do not clash."""
     told = {}
-    for save, outline in outlines.items():
-        if outline.ground == gap:
-            told.update(outline.asks)
-    return {name: told[name] for name in sorted(told)}
+    for outline in outlines.values():
+        if outline.ground is not None:
+            told.setdefault(outline.ground, {}).update(outline.asks)
+    return {gap: {name: told[gap][name] for name in sorted(told[gap])} for gap in sorted(told)}
 
 
 def fitting_tree(sketch, gap):
     """A tree that fits all that is said of a gap."""
-    told = said(sketch, gap)
-    return {name: (0,) * length for name, length in told.items() if length is not None}
+    return tree_for(said(sketch, gap), 0)
+
+
+def tree_for(asks, cell):
+    """The tree that has just the entries that are asked for, all with this cell."""
+    return {name: (cell,) * length for name, length in asks.items() if length is not None}
 
 
 def is_fitting(sketch, gap, value):
@@ -264,6 +268,13 @@ def clash(frames):
     """A clash of the frames, None if there is none."""
     check_frames(frames)
     return clash_in_frames(frames)
+
+
+def check_agreeing(frames):
+    """Refused with a clash if checked frames, however many, do not agree."""
+    found = clash_in_frames(frames)
+    if found is not None:
+        raise Refused(found)
 
 
 def clash_in_frames(frames):

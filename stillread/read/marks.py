@@ -201,5 +201,10 @@ def origin(row, at):
     """The source of the cell at a place of a row, and its index there."""
     check_row(row)
     check_number(at, 0, cells_in(row) - 1)
+    return origin_in(row, at)
+
+
+def origin_in(row, at):
+    """The source and the index of the cell at a place of a checked row that has it."""
     source, begin, many = part_of(row, at, at + 1)[0]
     return (source, begin)

@@ -230,6 +230,10 @@ class Outline:
         lacking = [save for save in sorted(wanted) if len(cells.get(save, ())) < wanted[save]]
         if lacking:
             raise Refused(("cells", lacking[0]))
+        return self.with_cells(tree, cells)
+
+    def with_cells(self, tree, cells):
+        """The tree with what is told of all cells: of those of a tree that fits, and of those of the saves."""
         found = {name: row_cells(row, tree, cells) for name, row in self._entries.items()}
         for name in tree:
             if self.is_fresh(name):

@@ -1,0 +1,1 @@
+"""Mending: writing again what frames tell of further ones."""

@@ -1,0 +1,1 @@
+"""What is needed: the fewest further frames, the losses that are borne, and orders that bear them."""

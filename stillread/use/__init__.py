@@ -1,0 +1,1 @@
+"""Use by texts: of deeds, questions, trees and histories, and a shell."""
