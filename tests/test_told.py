@@ -12,7 +12,7 @@ from stillread.read import told as module
 from stillread.read.told import Reading, answer_of, reach
 from tests import wrong
 from tests.examples import run_examples
-from tests.frames import ARCHIVE, drawn_story, plain_sights, some_frames
+from tests.frames import drawn_story, plain_sights, some_frames
 from tests.papers import papers_for, plain_named, plain_takes, plain_trail
 from tests.sketches import NAMES
 from tests.test_checker import QUESTION

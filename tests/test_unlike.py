@@ -24,7 +24,7 @@ from tests.papers import plain_named
 from tests.sketches import NAMES
 from tests.test_checker import HISTORY, QUESTION
 from tests.test_constraints import FRAMES as WRONG_FRAMES
-from tests.test_histories import APART, FIRST, NEXT, STORY, STORY_ROWS
+from tests.test_histories import FIRST, STORY, STORY_ROWS
 from tests.test_pieces import WRONG_SAVE
 from tests.test_told import CLASH, CLASHING, FRAMES, UNKNOWN, all_questions, drawn_frames
 
