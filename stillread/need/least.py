@@ -33,7 +33,8 @@ def least_indices(lot, wanted):
     rows, last = sorted(set(own + filled)), rows_of(lot) - 1
     if not rows:
         return ()
-    others = [index for index in range(lot[0][4]) if index not in payloads_of(lot)]
+    there = payloads_of(lot)
+    others = [index for index in range(lot[0][4]) if index not in there]
     choices = [others[:last + 1 - len(lot)], rows]
     if last in others and last not in own:
         # Without it the filling of the last row is one more known place.

@@ -99,15 +99,16 @@ def spread_order(lots):
     if bare_lots(lots):
         return tuple([index for index, lot in enumerate(lots) for _ in range(lot[0])])
     most, longest = longest_strands(lots)
-    rows = [[lot for lot, strand, length in longest] for _ in range(most)]
-    shorter = [row for row in strands_of(lots) if row[2] < most]
+    first = [told[0] for told in longest]
+    rows = [list(first) for _ in range(most)]
+    shorter = [told for told in strands_of(lots) if told[2] < most]
     at = 0
     # Longer ones first: so a strand that goes on from the last row to the first one has a row between.
-    for lot, strand, length in sorted(shorter, key=lambda row: -row[2]):
+    for lot, strand, length in sorted(shorter, key=lambda told: -told[2]):
         for _ in range(length):
             rows[at % (most - 1)].append(lot)
             at += 1
-    return tuple([lot for row in rows for lot in row])
+    return tuple([index for row in rows for index in row])
 
 
 def weak_stretches(lots, order):
@@ -208,12 +209,16 @@ def spread_text(frames):
     few = [save for save, lot in lots.items() if len(lot) < rows_of(lot)]
     if few:
         raise Refused(("few", few[0]))
-    rows = list(lots.values())
-    if not rows:
-        return ""
-    left = [list(lot) for lot in rows]
-    order = spread_order(tuple([(len(lot), rows_of(lot)) for lot in rows]))
-    return frames_text([left[index].pop(0) for index in order])
+    return frames_text(ordered(list(lots.values()))) if lots else ""
+
+
+def ordered(lots):
+    """The bodies of some lots in an order that bears as many as can be."""
+    left = [list(lot) for lot in lots]
+    bodies = []
+    for index in spread_order(tuple([(len(lot), rows_of(lot)) for lot in lots])):
+        bodies.append(left[index].pop())
+    return bodies
 
 
 def is_mixed(lot):
