@@ -289,6 +289,7 @@ class KeptTest(unittest.TestCase):
         self.assertEqual([kept((), (), 3), kept(all_frames(7, STORY), (), 3)], [((), ())] * 2)
         empty = STORY + ((1, 3, (1, 2), ("drop", "a"), 1),)
         self.assertEqual(kept(all_frames(7, empty), ((1, 3), (1, 3)), 3), ((), (None, None)))
+        self.assertEqual(kept(all_frames(9, STORY)[:1], ((1, 1),), 3), (frames_of(9, (3, 1) + STORY[0][2:4] + (1,), 0), ((3, 1),)))
         told, names = kept(all_frames(9, STORY), ((1, 1), (1, 2), (1, 1), (2, 1)), 3, more=15)
         self.assertEqual([len(told), names, {body[0] for body in told}], [48, ((3, 1), (3, 2), (3, 1), (3, 3)), {9}])
 

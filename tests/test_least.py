@@ -108,6 +108,13 @@ class FurtherTest(unittest.TestCase):
             self.assertEqual(len(told), many, wanted)
             self.assertIs(are_further_indices(lot, wanted, told), True)
         self.assertNotIn(7, further_indices(lot, tuple(at for at in range(44) if at % 6 >= 2)))
+        # One body behind the rows: a row of a column without filling, and others than the last one.
+        for wanted, many in ((tuple(range(3, 42, 6)), 6), ((0,) + tuple(range(3, 42, 6)), 6), (tuple(range(0, 44, 6)), 7),
+                             ((0, 6, 12) + tuple(range(5, 42, 6)), 6), ((42,) + tuple(range(3, 42, 6)), 7)):
+            wanted = tuple(sorted(wanted))
+            told = further_indices(frames[9:10], wanted)
+            self.assertEqual([len(told), list(told)], [many, sorted(set(told))])
+            self.assertIs(are_further_indices(frames[9:10], wanted, told), True)
 
     def check_refused(self, lot, wanted):
         wrong.check_raises(self, errors.InvalidOperation, further_indices, (lot, wanted))

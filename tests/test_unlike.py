@@ -228,7 +228,8 @@ class FillingsTest(unittest.TestCase):
         self.assertEqual([len(history), filling_of(two, history) == (trees, {})], [13002, True])
 
     def test_hands_that_are_named_are_not_taken(self):
-        hands = [hand for hand in range(1, 997) if hand not in (4, 500, 996)]
+        fresh = (1, 4, 996) + tuple(range(500, 511))
+        hands = [hand for hand in range(1, 997) if hand not in fresh]
         frames = ()
         for hand, base in zip(hands[:491], hands[491:982]):
             frames += frames_of(7, (hand, 5, (base, 3), ("put", "a", ()), 1), 0)
@@ -237,6 +238,12 @@ class FillingsTest(unittest.TestCase):
         history = filled(frames, (trees, {}))
         self.assertIs(has_frames(history, frames), True)
         self.assertEqual(filling_of(frames, history), (trees, {}))
+        # As many puts as there may be, beside 490 trees without entries.
+        trees[(hands[491], 3)] = named_tree(13000)
+        history = filled(frames, (trees, {}))
+        self.assertEqual({save[0] for save in history}, set(range(1, 997)))
+        self.assertIs(has_frames(history, frames), True)
+        self.assertEqual(len(history), 12999 + 490 + 982)
 
     def test_values_that_are_no_filling(self):
         self.assertIs(is_filling(FRAMES, RIGHT), True)

@@ -17,7 +17,7 @@ MOST_TEXT = 60000
 
 
 def standing(text):
-    """The ascending tuple of the bodies of all frames that stand in a text."""
+    """The ascending tuple of the bodies of all frames that stand in a text, InvalidText if it is none."""
     return tuple([body for body in bodies_in(text) if is_body(body)])
 
 

@@ -5,7 +5,7 @@ from stillread.keep.archive import standing
 from stillread.lots.gather import columns_told, lots_in, payloads_of, rows_of
 from stillread.lots.spread import check_frames
 from stillread.read.constraints import check_agreeing
-from stillread.text.cells import MOST_SIGNS, WINDOW_SIGNS, check_text
+from stillread.text.cells import MOST_SIGNS, WINDOW_SIGNS
 from stillread.text.frames import frames_text
 
 
@@ -59,7 +59,6 @@ def lacking(lot):
 
 def mended(text):
     """The text with all frames behind it that are told and do not stand."""
-    check_text(text)
     archives = {}
     for body in standing(text):
         archives.setdefault(body[0], []).append(body)
@@ -74,5 +73,4 @@ def mended(text):
 
 def clean(text):
     """The frames that stand in a text, each once, bodies ascending."""
-    check_text(text)
     return frames_text(standing(text))

@@ -100,9 +100,8 @@ def filling_of(frames, history):
 def numbers_in(sight, column, cells, many):
     """The free numbers of a column of a save with this sight and these new cells."""
     points = tuple([(row, numbers[column]) for row, numbers in enumerate(cell_rows(cells))])
-    known = sight_places(sight, column)
-    rest = combined(interpolated(points), poly_through(known, len(known)), -1)
-    quotient, none = poly_divided(rest, with_roots(list(known)))
+    # The poly through the known places alone has a lesser degree than the one that is 0 there: it is in the rest.
+    quotient, rest = poly_divided(interpolated(points), with_roots(list(sight_places(sight, column))))
     return quotient + (0,) * (many - len(quotient))
 
 
