@@ -78,7 +78,7 @@ class ManyHandsTest(unittest.TestCase):
                 continue
             self.check_read(left, tuple(story), trees, counts)
             self.check_gone_on(left, archives, story, trees, counts)
-        self.assertGreater(min(counts.values()), 150)
+        self.assertGreater(min(counts.values()), 20)
 
     def check_read(self, text, story, trees, counts):
         """What is told is so in the history, with a paper; what is open has two histories; mending changes nothing."""
