@@ -5,8 +5,9 @@ from stillread.lots.columns import number_at, paper_at
 from stillread.lots.spread import ROW, check_frames
 from stillread.paper.checker import GONE, does_speak, is_rooted, said_above, said_own
 from stillread.plain.histories import check_save_name
-from stillread.read.constraints import check_agreeing, outlines_in, said_in, sights_in, sketch_in
-from stillread.read.constraints import sight_places, sight_rows
+from stillread.read.constraints import (
+    check_agreeing, outlines_in, said_in, sight_places, sight_rows, sights_in, sketch_in,
+)
 from stillread.read.marks import origin_in
 
 
